@@ -21,3 +21,11 @@ func fill[N Number](to []N, places []int, value N) {
 		to[place] = value
 	}
 }
+
+// write puts values, each taken as a number of the kind, into the cells at
+// these places, one each.
+func write[N Number](to []N, places, values []int) {
+	for i, place := range places {
+		to[place] = N(values[i])
+	}
+}

@@ -72,6 +72,12 @@ func (s *Store[N]) Fill(value int, places ...int) {
 	fill(s.cells, places, N(value))
 }
 
+// Write puts values, taken as numbers of the store's kind, into the cells at
+// these places: as many of them as there are places.
+func (s *Store[N]) Write(places, values []int) {
+	write(s.cells, places, values)
+}
+
 // State tells how the store stands.
 func (s *Store[N]) State() api.Store {
 	state := api.Store{Cells: len(s.cells)}

@@ -103,3 +103,15 @@ func TestNumbersOfBothKinds(t *testing.T) {
 		}
 	}
 }
+
+func TestWrite(t *testing.T) {
+	bytes, ints := NewStore[uint8](4), NewStore[int64](4)
+	bytes.Write([]int{3, 0, 1}, []int{300, -1, 7})
+	ints.Write([]int{3, 0, 1}, []int{300, -1, 7})
+	if values := bytes.Read(0, 1, 2, 3); !slices.Equal(values, []int{255, 7, 0, 44}) {
+		t.Errorf("bytes: %v", values)
+	}
+	if values := ints.Read(0, 1, 2, 3); !slices.Equal(values, []int{-1, 7, 0, 300}) {
+		t.Errorf("ints: %v", values)
+	}
+}

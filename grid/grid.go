@@ -1,9 +1,14 @@
 package grid
 
-import "trellis/api"
+import (
+	"slices"
+
+	"trellis/api"
+)
 
 // Steps tells for each axis how far apart the cells of two neighbours are.
-// Steps are compared with ==, so those of axes that do not count stay 0.
+// Steps are compared with ==, so those that are of no matter stay 0: of axes
+// that do not count, and of axes of size 1.
 type Steps [api.MaxAxes]int
 
 // Grid says which cell each index of a shape means: the first one, plus each
@@ -19,10 +24,18 @@ func Whole(shape Shape, first int) Grid {
 	whole := Grid{Shape: shape, First: first}
 	step := 1
 	for axis := shape.Axes - 1; axis >= 0; axis-- {
-		whole.Steps[axis] = step
+		whole.put(axis, shape.Sizes[axis], step)
 		step *= shape.Sizes[axis]
 	}
 	return whole
+}
+
+// put gives an axis its size, and its step where that matters.
+func (g *Grid) put(axis, size, step int) {
+	if size == 1 {
+		step = 0
+	}
+	g.Shape.Sizes[axis], g.Steps[axis] = size, step
 }
 
 // Cell tells the cell of an index, and whether it is one.
@@ -56,4 +69,14 @@ func repeat(cells []int, size, step int) []int {
 		}
 	}
 	return more
+}
+
+// Meets tells whether some cell is one of both grids.
+func (g Grid) Meets(other Grid) bool {
+	own := g.Cells()
+	slices.Sort(own)
+	return slices.ContainsFunc(other.Cells(), func(cell int) bool {
+		_, found := slices.BinarySearch(own, cell)
+		return found
+	})
 }

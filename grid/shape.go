@@ -58,3 +58,18 @@ func (s Shape) Has(index []int) bool {
 	}
 	return true
 }
+
+// isOrder tells whether these are the numbers of all axes, each once.
+func (s Shape) isOrder(axes []int) bool {
+	if len(axes) != s.Axes {
+		return false
+	}
+	var times [api.MaxAxes]int
+	for _, axis := range axes {
+		if axis < 0 || axis >= s.Axes || times[axis] > 0 {
+			return false
+		}
+		times[axis]++
+	}
+	return true
+}

@@ -58,6 +58,99 @@ func wantStore(t *testing.T, s *trellis.Space, kind, cells, used, top int) {
 	}
 }
 
+// wantNew is for calls that make an array: wantNew(t, 2)(s.Cut(..)).
+func wantNew(t *testing.T, want int) func(int, api.Errno) {
+	return func(h int, e api.Errno) {
+		t.Helper()
+		if h != want || e != api.OK {
+			t.Fatalf("%d, %d, want %d", h, e, want)
+		}
+	}
+}
+
+func wantNone(t *testing.T, want api.Errno) func(int, api.Errno) {
+	return func(h int, e api.Errno) {
+		t.Helper()
+		if h != 0 || e != want {
+			t.Fatalf("%d, %d, want error %d", h, e, want)
+		}
+	}
+}
+
+func wantReshaped(t *testing.T, want int, view bool) func(int, bool, api.Errno) {
+	return func(h int, isView bool, e api.Errno) {
+		t.Helper()
+		if h != want || isView != view || e != api.OK {
+			t.Fatalf("%d, %v, %d, want %d, %v", h, isView, e, want, view)
+		}
+	}
+}
+
+func wantNotReshaped(t *testing.T, want api.Errno) func(int, bool, api.Errno) {
+	return func(h int, isView bool, e api.Errno) {
+		t.Helper()
+		if h != 0 || isView || e != want {
+			t.Fatalf("%d, %v, %d, want error %d", h, isView, e, want)
+		}
+	}
+}
+
+func wantLook(t *testing.T, s *trellis.Space, h, kind int, readOnly bool, shape ...int) {
+	t.Helper()
+	look, e := s.Look(h)
+	if look.Kind != kind || look.ReadOnly != readOnly || !slices.Equal(look.Shape, shape) || e != api.OK {
+		t.Fatalf("Look(%d) = %+v, %d, want %d, %v, %v", h, look, e, kind, readOnly, shape)
+	}
+}
+
+func wantShared(t *testing.T, s *trellis.Space, a, b int, want bool) {
+	t.Helper()
+	for _, c := range [][2]int{{a, b}, {b, a}} {
+		if shared, e := s.Shared(c[0], c[1]); shared != want || e != api.OK {
+			t.Fatalf("Shared(%d, %d) = %v, %d, want %v", c[0], c[1], shared, e, want)
+		}
+	}
+}
+
+// wantSame holds the values, index by index, of two arrays that have the same
+// cells, and that what is written through one is read through the other.
+func wantSame(t *testing.T, s *trellis.Space, a, b int) {
+	t.Helper()
+	was, _ := s.Values(a)
+	wantValues(t, s, b, was...)
+	count(t, s, a, 1000)
+	now, _ := s.Values(a)
+	wantValues(t, s, b, now...)
+	count(t, s, b, 2000)
+	now, _ = s.Values(b)
+	wantValues(t, s, a, now...)
+}
+
+// count sets the values of an array, in their order, from a number on.
+func count(t *testing.T, s *trellis.Space, h, from int) {
+	t.Helper()
+	look, e := s.Look(h)
+	wantDone(t, e)
+	for n, index := range indices(look.Shape) {
+		wantDone(t, s.Set(h, from+n, index...))
+	}
+}
+
+// indices tells all indices of a shape, in their order.
+func indices(shape []int) [][]int {
+	all := [][]int{{}}
+	for _, size := range shape {
+		var longer [][]int
+		for _, index := range all {
+			for i := range size {
+				longer = append(longer, append(slices.Clone(index), i))
+			}
+		}
+		all = longer
+	}
+	return all
+}
+
 func wantNoArray(t *testing.T, s *trellis.Space, h int) {
 	t.Helper()
 	if e := s.Free(h); e != api.ErrHandle {
@@ -79,5 +172,12 @@ func wantNoArray(t *testing.T, s *trellis.Space, h int) {
 	look, e := s.Look(h)
 	if look.Kind != 0 || look.Shape != nil || look.ReadOnly || e != api.ErrHandle {
 		t.Errorf("Look(%d) = %+v, %d", h, look, e)
+	}
+	wantNone(t, api.ErrHandle)(s.Cut(h, -1, -1, 0, 0))
+	wantNone(t, api.ErrHandle)(s.Turn(h, -1))
+	wantNone(t, api.ErrHandle)(s.Stretch(h, -1))
+	wantNotReshaped(t, api.ErrHandle)(s.Reshape(h, -1))
+	if shared, e := s.Shared(h, h); shared || e != api.ErrHandle {
+		t.Errorf("Shared(%d, %d) = %v, %d", h, h, shared, e)
 	}
 }

@@ -1,38 +1,76 @@
 package trellis_test
 
 import (
-	"math/rand/v2"
-	"testing"
+	"math/big"
+	"slices"
 
 	"trellis/api"
-	"trellis/trellis"
 )
 
-// model is a space told as plainly as can be: each cell knows its owner.
+// model is a space told as plainly as can be: each cell knows its buffer, each
+// array lists its cells one by one, and there are no steps.
 type model struct {
-	owners map[int][]int // by kind: the handle that each cell belongs to, or 0
+	stores map[int][]spot
 	arrays map[int]*plain
 	last   int
 }
 
+type spot struct {
+	buffer int // the handle of the array that it was made for, or 0
+	value  int
+}
+
 type plain struct {
-	kind   int
-	shape  []int
-	values []int
+	kind     int
+	shape    []int
+	cells    []int
+	readOnly bool
 }
 
 func newModel(bytes, ints int) *model {
 	return &model{
-		owners: map[int][]int{api.Byte: make([]int, bytes), api.Int: make([]int, ints)},
+		stores: map[int][]spot{api.Byte: make([]spot, bytes), api.Int: make([]spot, ints)},
 		arrays: map[int]*plain{},
 	}
 }
 
+func volumeOf(shape []int) int {
+	volume := 1
+	for _, size := range shape {
+		volume *= size
+	}
+	return volume
+}
+
+func mayBe(shape []int) bool {
+	for _, size := range shape {
+		if size < 1 || size > 60 {
+			return false
+		}
+	}
+	return len(shape) <= 4 && volumeOf(shape) <= 3600
+}
+
+// rank tells how many indices of a shape are ahead of one, or -1, if it is none.
+func rank(shape, index []int) int {
+	if len(index) != len(shape) {
+		return -1
+	}
+	at := 0
+	for axis, i := range index {
+		if i < 0 || i >= shape[axis] {
+			return -1
+		}
+		at = at*shape[axis] + i
+	}
+	return at
+}
+
 func (m *model) place(kind, volume int) (int, bool) {
 	row := 0
-	for i, owner := range m.owners[kind] {
+	for i, cell := range m.stores[kind] {
 		row++
-		if owner != 0 {
+		if cell.buffer != 0 {
 			row = 0
 		}
 		if row == volume {
@@ -42,24 +80,35 @@ func (m *model) place(kind, volume int) (int, bool) {
 	return 0, false
 }
 
+func (m *model) add(made *plain) (int, api.Errno) {
+	if len(m.arrays) == 40 {
+		return 0, api.ErrMany
+	}
+	m.last++
+	m.arrays[m.last] = made
+	return m.last, api.OK
+}
+
 func (m *model) make(kind int, shape []int) (int, api.Errno) {
-	volume := 1
-	for _, size := range shape {
-		volume *= size
+	if kind != api.Byte && kind != api.Int {
+		return 0, api.ErrKind
+	}
+	if !mayBe(shape) {
+		return 0, api.ErrShape
 	}
 	if len(m.arrays) == 40 {
 		return 0, api.ErrMany
 	}
-	start, ok := m.place(kind, volume)
+	start, ok := m.place(kind, volumeOf(shape))
 	if !ok {
 		return 0, api.ErrFull
 	}
-	m.last++
-	for i := range volume {
-		m.owners[kind][start+i] = m.last
+	made := &plain{kind: kind, shape: slices.Clone(shape)}
+	for cell := start; cell < start+volumeOf(shape); cell++ {
+		m.stores[kind][cell] = spot{buffer: m.last + 1}
+		made.cells = append(made.cells, cell)
 	}
-	m.arrays[m.last] = &plain{kind, shape, make([]int, volume)}
-	return m.last, api.OK
+	return m.add(made)
 }
 
 func (m *model) free(h int) api.Errno {
@@ -67,14 +116,162 @@ func (m *model) free(h int) api.Errno {
 		return api.ErrHandle
 	}
 	delete(m.arrays, h)
-	for _, owners := range m.owners {
-		for i := range owners {
-			if owners[i] == h {
-				owners[i] = 0
+	held := map[int]int{}
+	for _, a := range m.arrays {
+		held[m.stores[a.kind][a.cells[0]].buffer]++
+	}
+	for _, store := range m.stores {
+		for i := range store {
+			if held[store[i].buffer] == 0 {
+				store[i].buffer = 0
 			}
 		}
 	}
 	return api.OK
+}
+
+// view makes the array of a shape each of whose indices means an index of a.
+func (m *model) view(a *plain, shape []int, readOnly bool, meant func(index []int) []int) (int, api.Errno) {
+	made := &plain{kind: a.kind, shape: slices.Clone(shape), readOnly: readOnly || a.readOnly}
+	for _, index := range indices(shape) {
+		made.cells = append(made.cells, a.cells[rank(a.shape, meant(index))])
+	}
+	return m.add(made)
+}
+
+// end is start + (count - 1) * step, whatever the numbers are.
+func end(start, count, step int) *big.Int {
+	last := new(big.Int).Sub(big.NewInt(int64(count)), big.NewInt(1))
+	last.Mul(last, big.NewInt(int64(step)))
+	return last.Add(last, big.NewInt(int64(start)))
+}
+
+func (m *model) cut(h, axis, start, count, step int) (int, api.Errno) {
+	a := m.arrays[h]
+	if a == nil {
+		return 0, api.ErrHandle
+	}
+	if axis < 0 || axis >= len(a.shape) || count < 1 || step == 0 || start < 0 || start >= a.shape[axis] {
+		return 0, api.ErrRange
+	}
+	if to := end(start, count, step); to.Sign() < 0 || to.Cmp(big.NewInt(int64(a.shape[axis]))) >= 0 {
+		return 0, api.ErrRange
+	}
+	shape := slices.Clone(a.shape)
+	shape[axis] = count
+	return m.view(a, shape, false, func(index []int) []int {
+		index[axis] = start + index[axis]*step
+		return index
+	})
+}
+
+func (m *model) turn(h int, axes []int) (int, api.Errno) {
+	a := m.arrays[h]
+	if a == nil {
+		return 0, api.ErrHandle
+	}
+	sorted := slices.Sorted(slices.Values(axes))
+	if len(axes) != len(a.shape) {
+		return 0, api.ErrShape
+	}
+	shape := make([]int, len(axes))
+	for k, axis := range axes {
+		if sorted[k] != k {
+			return 0, api.ErrShape
+		}
+		shape[k] = a.shape[axis]
+	}
+	return m.view(a, shape, false, func(index []int) []int {
+		meant := make([]int, len(axes))
+		for k, axis := range axes {
+			meant[axis] = index[k]
+		}
+		return meant
+	})
+}
+
+func (m *model) stretch(h int, shape []int) (int, api.Errno) {
+	a := m.arrays[h]
+	if a == nil {
+		return 0, api.ErrHandle
+	}
+	if !mayBe(shape) || len(shape) < len(a.shape) {
+		return 0, api.ErrShape
+	}
+	beside := shape[len(shape)-len(a.shape):]
+	for axis, size := range a.shape {
+		if size != 1 && size != beside[axis] {
+			return 0, api.ErrShape
+		}
+	}
+	return m.view(a, shape, true, func(index []int) []int {
+		meant := index[len(shape)-len(a.shape):]
+		for axis, size := range a.shape {
+			if size == 1 {
+				meant[axis] = 0
+			}
+		}
+		return meant
+	})
+}
+
+// isView tells whether cells, in the order of a shape's indices, are those of
+// the first one plus a number for each axis times the index's.
+func isView(cells, shape []int) bool {
+	all := indices(shape)
+	numbers := make([]int, len(shape))
+	for axis := range shape {
+		second := make([]int, len(shape))
+		second[axis] = 1
+		if at := rank(shape, second); at >= 0 {
+			numbers[axis] = cells[at] - cells[0]
+		}
+	}
+	for n, index := range all {
+		cell := cells[0]
+		for axis, i := range index {
+			cell += i * numbers[axis]
+		}
+		if cell != cells[n] {
+			return false
+		}
+	}
+	return true
+}
+
+func (m *model) reshape(h int, shape []int) (int, bool, api.Errno) {
+	a := m.arrays[h]
+	if a == nil {
+		return 0, false, api.ErrHandle
+	}
+	if !mayBe(shape) || volumeOf(shape) != len(a.cells) {
+		return 0, false, api.ErrShape
+	}
+	if isView(a.cells, shape) {
+		made, e := m.add(&plain{a.kind, slices.Clone(shape), a.cells, a.readOnly})
+		return made, e == api.OK, e
+	}
+	values := m.values(a)
+	made, e := m.make(a.kind, shape)
+	for n, value := range values {
+		if e == api.OK {
+			m.stores[a.kind][m.arrays[made].cells[n]].value = value
+		}
+	}
+	return made, false, e
+}
+
+func (m *model) shared(a, b int) (bool, api.Errno) {
+	one, other := m.arrays[a], m.arrays[b]
+	if one == nil || other == nil {
+		return false, api.ErrHandle
+	}
+	for _, cell := range one.cells {
+		if one.kind == other.kind && slices.Contains(other.cells, cell) {
+			return true, api.OK
+		}
+	}
+	return false, api.OK
 }
 
 func (m *model) set(h, value int, index []int) api.Errno {
@@ -82,17 +279,14 @@ func (m *model) set(h, value int, index []int) api.Errno {
 	if a == nil {
 		return api.ErrHandle
 	}
-	if len(index) != len(a.shape) {
+	if a.readOnly {
+		return api.ErrRead
+	}
+	at := rank(a.shape, index)
+	if at < 0 {
 		return api.ErrRange
 	}
-	at := 0
-	for axis, i := range index {
-		if i < 0 || i >= a.shape[axis] {
-			return api.ErrRange
-		}
-		at = at*a.shape[axis] + i
-	}
-	a.values[at] = a.taken(value)
+	m.stores[a.kind][a.cells[at]].value = a.taken(value)
 	return api.OK
 }
 
@@ -101,10 +295,21 @@ func (m *model) fill(h, value int) api.Errno {
 	if a == nil {
 		return api.ErrHandle
 	}
-	for i := range a.values {
-		a.values[i] = a.taken(value)
+	if a.readOnly {
+		return api.ErrRead
+	}
+	for _, cell := range a.cells {
+		m.stores[a.kind][cell].value = a.taken(value)
 	}
 	return api.OK
+}
+
+func (m *model) values(a *plain) []int {
+	var values []int
+	for _, cell := range a.cells {
+		values = append(values, m.stores[a.kind][cell].value)
+	}
+	return values
 }
 
 func (a *plain) taken(value int) int {
@@ -112,74 +317,4 @@ func (a *plain) taken(value int) int {
 		return value & 255
 	}
 	return value
-}
-
-func (m *model) compare(t *testing.T, s *trellis.Space) {
-	t.Helper()
-	for h := 1; h <= m.last; h++ {
-		if a := m.arrays[h]; a != nil {
-			wantValues(t, s, h, a.values...)
-		} else {
-			wantNoArray(t, s, h)
-		}
-	}
-	for kind, owners := range m.owners {
-		used, top := 0, 0
-		for i, owner := range owners {
-			if owner != 0 {
-				used++
-				top = i + 1
-			}
-		}
-		wantStore(t, s, kind, len(owners), used, top)
-	}
-}
-
-func numbers(r *rand.Rand, count, from, to int) []int {
-	list := make([]int, count)
-	for i := range list {
-		list[i] = from + r.IntN(to-from+1)
-	}
-	return list
-}
-
-func step(t *testing.T, r *rand.Rand, m *model, s *trellis.Space) {
-	t.Helper()
-	h, value := m.last+1-r.IntN(50), r.IntN(2000)-1000
-	switch r.IntN(5) {
-	case 0, 1:
-		kind, shape := 1+r.IntN(2), numbers(r, r.IntN(5), 1, 3)
-		want, wrong := m.make(kind, shape)
-		if got, e := s.Make(kind, shape...); got != want || e != wrong {
-			t.Fatalf("Make(%d, %v) = %d, %d, want %d, %d", kind, shape, got, e, want, wrong)
-		}
-	case 2:
-		if want, e := m.free(h), s.Free(h); e != want {
-			t.Fatalf("Free(%d) = %d, want %d", h, e, want)
-		}
-	case 3:
-		index := numbers(r, r.IntN(5), -1, 3)
-		if a := m.arrays[h]; a != nil && r.IntN(4) > 0 {
-			index = numbers(r, len(a.shape), 0, 2)
-		}
-		if want, e := m.set(h, value, index), s.Set(h, value, index...); e != want {
-			t.Fatalf("Set(%d, %d, %v) = %d, want %d", h, value, index, e, want)
-		}
-	case 4:
-		if want, e := m.fill(h, value), s.Fill(h, value); e != want {
-			t.Fatalf("Fill(%d, %d) = %d, want %d", h, value, e, want)
-		}
-	}
-}
-
-func TestLikeThePlainModel(t *testing.T) {
-	for seed := range uint64(20) {
-		r := rand.New(rand.NewPCG(seed, 7))
-		bytes, ints := 50+r.IntN(500), 50+r.IntN(500)
-		m, s := newModel(bytes, ints), newSpace(t, bytes, ints)
-		for range 300 {
-			step(t, r, m, s)
-			m.compare(t, s)
-		}
-	}
 }

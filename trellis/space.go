@@ -12,6 +12,7 @@ type store interface {
 	GiveBack(start int)
 	Read(places ...int) []int
 	Fill(value int, places ...int)
+	Write(places, values []int)
 	State() api.Store
 }
 
@@ -70,9 +71,14 @@ func (s *Space) findToWrite(h int) (array, store, api.Errno) {
 	return found, in, api.OK
 }
 
+// isMany tells whether there may be no more arrays.
+func (s *Space) isMany() bool {
+	return len(s.arrays) >= api.MaxArrays
+}
+
 // makeWhole makes an array with a buffer of its own, whose cells are 0.
 func (s *Space) makeWhole(kind int, in store, shape grid.Shape) (int, api.Errno) {
-	if len(s.arrays) >= api.MaxArrays {
+	if s.isMany() {
 		return 0, api.ErrMany
 	}
 	start, ok := in.Take(shape.Volume())
@@ -80,6 +86,35 @@ func (s *Space) makeWhole(kind int, in store, shape grid.Shape) (int, api.Errno)
 		return 0, api.ErrFull
 	}
 	return s.add(array{kind: kind, buffer: start, grid: grid.Whole(shape, start)}), api.OK
+}
+
+// makeView makes an array that has cells of another one.
+func (s *Space) makeView(of array, view grid.Grid) (int, api.Errno) {
+	if s.isMany() {
+		return 0, api.ErrMany
+	}
+	of.grid = view
+	return s.add(of), api.OK
+}
+
+// makeCopy makes an array with a buffer of its own, and the values of another one.
+func (s *Space) makeCopy(of array, in store, shape grid.Shape) (int, api.Errno) {
+	h, e := s.makeWhole(of.kind, in, shape)
+	if e != api.OK {
+		return 0, e
+	}
+	in.Write(s.arrays[h].grid.Cells(), in.Read(of.grid.Cells()...))
+	return h, api.OK
+}
+
+// isUsed tells whether some array has cells of the buffer that starts there.
+func (s *Space) isUsed(kind, buffer int) bool {
+	for _, user := range s.arrays {
+		if user.kind == kind && user.buffer == buffer {
+			return true
+		}
+	}
+	return false
 }
 
 // add gives an array the next handle.

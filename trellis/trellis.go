@@ -37,16 +37,66 @@ func (s *Space) Make(kind int, shape ...int) (int, api.Errno) {
 }
 
 // Cut cuts a view along an axis (P5).
-func (s *Space) Cut(h, axis, start, count, step int) (int, api.Errno) { return 0, api.OK }
+func (s *Space) Cut(h, axis, start, count, step int) (int, api.Errno) {
+	of, _, e := s.find(h)
+	if e != api.OK {
+		return 0, e
+	}
+	cut, ok := of.grid.Cut(axis, start, count, step)
+	if !ok {
+		return 0, api.ErrRange
+	}
+	return s.makeView(of, cut)
+}
 
 // Turn puts axes in another order (P5).
-func (s *Space) Turn(h int, axes ...int) (int, api.Errno) { return 0, api.OK }
+func (s *Space) Turn(h int, axes ...int) (int, api.Errno) {
+	of, _, e := s.find(h)
+	if e != api.OK {
+		return 0, e
+	}
+	turned, ok := of.grid.Turn(axes)
+	if !ok {
+		return 0, api.ErrShape
+	}
+	return s.makeView(of, turned)
+}
 
 // Stretch makes a read-only view of another shape (P5).
-func (s *Space) Stretch(h int, shape ...int) (int, api.Errno) { return 0, api.OK }
+func (s *Space) Stretch(h int, shape ...int) (int, api.Errno) {
+	of, _, e := s.find(h)
+	if e != api.OK {
+		return 0, e
+	}
+	sizes, ok := grid.ShapeOf(shape)
+	if !ok {
+		return 0, api.ErrShape
+	}
+	stretched, ok := of.grid.Stretch(sizes)
+	if !ok {
+		return 0, api.ErrShape
+	}
+	of.readOnly = true
+	return s.makeView(of, stretched)
+}
 
 // Reshape makes a view, or a copy, of another shape (P6).
-func (s *Space) Reshape(h int, shape ...int) (int, bool, api.Errno) { return 0, false, api.OK }
+func (s *Space) Reshape(h int, shape ...int) (int, bool, api.Errno) {
+	of, in, e := s.find(h)
+	if e != api.OK {
+		return 0, false, e
+	}
+	sizes, ok := grid.ShapeOf(shape)
+	if !ok || sizes.Volume() != of.grid.Shape.Volume() {
+		return 0, false, api.ErrShape
+	}
+	if view, ok := of.grid.Reshape(sizes); ok {
+		made, e := s.makeView(of, view)
+		return made, e == api.OK, e
+	}
+	made, e := s.makeCopy(of, in, sizes)
+	return made, false, e
+}
 
 // Free lets an array go (P7).
 func (s *Space) Free(h int) api.Errno {
@@ -55,7 +105,9 @@ func (s *Space) Free(h int) api.Errno {
 		return e
 	}
 	delete(s.arrays, h)
-	in.GiveBack(gone.buffer)
+	if !s.isUsed(gone.kind, gone.buffer) {
+		in.GiveBack(gone.buffer)
+	}
 	return api.OK
 }
 
@@ -124,7 +176,18 @@ func (s *Space) Look(h int) (api.Look, api.Errno) {
 }
 
 // Shared tells whether two arrays have a cell in common (P11).
-func (s *Space) Shared(a, b int) (bool, api.Errno) { return false, api.OK }
+func (s *Space) Shared(a, b int) (bool, api.Errno) {
+	one, _, e := s.find(a)
+	if e != api.OK {
+		return false, e
+	}
+	other, _, e := s.find(b)
+	if e != api.OK {
+		return false, e
+	}
+	// Each kind has a store of its own, and the cells of both have the same numbers.
+	return one.kind == other.kind && one.grid.Meets(other.grid), api.OK
+}
 
 // Store tells how a store of cells stands (P11).
 func (s *Space) Store(kind int) (api.Store, api.Errno) {
