@@ -22,6 +22,16 @@ func fill[N Number](to []N, places []int, value N) {
 	}
 }
 
+// combine tells what do makes of two lists of values, each taken as a number of
+// the kind, in new memory.
+func combine[N Number](a, b []int, do func(a, b N) N) []int {
+	made := make([]int, len(a))
+	for i := range made {
+		made[i] = int(do(N(a[i]), N(b[i])))
+	}
+	return made
+}
+
 // write puts values, each taken as a number of the kind, into the cells at
 // these places, one each.
 func write[N Number](to []N, places, values []int) {

@@ -19,11 +19,12 @@ func (b buffer) end() int { return b.start + b.size }
 type Store[N Number] struct {
 	cells   []N
 	buffers []buffer
+	ops     ops[N]
 }
 
 // NewStore makes a store of so many cells, without buffers.
 func NewStore[N Number](size int) *Store[N] {
-	return &Store[N]{cells: make([]N, size)}
+	return &Store[N]{cells: make([]N, size), ops: newOps[N]()}
 }
 
 // Take makes a buffer of so many cells, all of them 0, at the lowest place, and
@@ -76,6 +77,12 @@ func (s *Store[N]) Fill(value int, places ...int) {
 // these places: as many of them as there are places.
 func (s *Store[N]) Write(places, values []int) {
 	write(s.cells, places, values)
+}
+
+// Combine tells what an op makes of two lists of values that are equally long,
+// taken as numbers of the store's kind, one by one. The cells stay as they are.
+func (s *Store[N]) Combine(op int, a, b []int) []int {
+	return combine(a, b, s.ops.of(op))
 }
 
 // State tells how the store stands.

@@ -38,6 +38,12 @@ func (g *Grid) put(axis, size, step int) {
 	g.Shape.Sizes[axis], g.Steps[axis] = size, step
 }
 
+// push puts one more axis behind the last one.
+func (g *Grid) push(size, step int) {
+	g.Shape.Axes++
+	g.put(g.Shape.Axes-1, size, step)
+}
+
 // Cell tells the cell of an index, and whether it is one.
 func (g Grid) Cell(index []int) (int, bool) {
 	if !g.Shape.Has(index) {

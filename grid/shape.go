@@ -59,6 +59,11 @@ func (s Shape) Has(index []int) bool {
 	return true
 }
 
+// hasAxis tells whether there is such an axis.
+func (s Shape) hasAxis(axis int) bool {
+	return axis >= 0 && axis < s.Axes
+}
+
 // isOrder tells whether these are the numbers of all axes, each once.
 func (s Shape) isOrder(axes []int) bool {
 	if len(axes) != s.Axes {
@@ -66,7 +71,7 @@ func (s Shape) isOrder(axes []int) bool {
 	}
 	var times [api.MaxAxes]int
 	for _, axis := range axes {
-		if axis < 0 || axis >= s.Axes || times[axis] > 0 {
+		if !s.hasAxis(axis) || times[axis] > 0 {
 			return false
 		}
 		times[axis]++

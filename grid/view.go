@@ -3,7 +3,7 @@ package grid
 // Cut takes count indices of an axis, from start on by step, and tells whether
 // there are such.
 func (g Grid) Cut(axis, start, count, step int) (Grid, bool) {
-	if axis < 0 || axis >= g.Shape.Axes || !cuts(g.Shape.Sizes[axis], start, count, step) {
+	if !g.Shape.hasAxis(axis) || !cuts(g.Shape.Sizes[axis], start, count, step) {
 		return Grid{}, false
 	}
 	cut := g
@@ -59,6 +59,30 @@ func (g Grid) Stretch(shape Shape) (Grid, bool) {
 	return stretched, true
 }
 
+// Layers tells for each index of an axis, in their order, the cells there, laid
+// over the other axes, and whether there is such an axis.
+func (g Grid) Layers(axis int) ([]Grid, bool) {
+	if !g.Shape.hasAxis(axis) {
+		return nil, false
+	}
+	layers := make([]Grid, g.Shape.Sizes[axis])
+	for i := range layers {
+		layers[i] = g.layer(axis, i)
+	}
+	return layers, true
+}
+
+// layer leaves an axis out, at one of its indices.
+func (g Grid) layer(axis, i int) Grid {
+	layer := Grid{First: g.First + i*g.Steps[axis]}
+	for other := range g.Shape.Axes {
+		if other != axis {
+			layer.push(g.Shape.Sizes[other], g.Steps[other])
+		}
+	}
+	return layer
+}
+
 // Reshape lays the same cells, in the same order, over another shape of the
 // same volume, and tells whether there are steps for that.
 func (g Grid) Reshape(shape Shape) (Grid, bool) {
@@ -69,7 +93,8 @@ func (g Grid) Reshape(shape Shape) (Grid, bool) {
 		other.put(axis, shape.Sizes[axis], g.nth(next)-g.First)
 		next *= shape.Sizes[axis]
 	}
-	if other.merged() != g.merged() {
+	own, few := g.merged(), other.merged()
+	if few.Shape != own.Shape || few.Steps != own.Steps { // the first cell is the same
 		return Grid{}, false
 	}
 	return other, true
@@ -101,8 +126,7 @@ func (g Grid) merged() Grid {
 			few.put(last, few.Shape.Sizes[last]*size, step)
 			continue
 		}
-		few.Shape.Axes++
-		few.put(last+1, size, step)
+		few.push(size, step)
 	}
 	return few
 }

@@ -226,3 +226,42 @@ func TestMeets(t *testing.T) {
 		}
 	}
 }
+
+func TestLayers(t *testing.T) {
+	whole := Whole(shapeOf(t, 2, 3, 4), 5)
+	for axis, c := range []struct {
+		shape Shape
+		steps Steps
+		step  int
+	}{
+		{shapeOf(t, 3, 4), Steps{4, 1}, 12},
+		{shapeOf(t, 2, 4), Steps{12, 1}, 4},
+		{shapeOf(t, 2, 3), Steps{12, 4}, 1},
+	} {
+		layers, ok := whole.Layers(axis)
+		if !ok || len(layers) != whole.Shape.Sizes[axis] {
+			t.Fatalf("Layers(%d) = %v, %v", axis, layers, ok)
+		}
+		for i, layer := range layers {
+			if layer != (Grid{Shape: c.shape, First: 5 + i*c.step, Steps: c.steps}) {
+				t.Errorf("Layers(%d)[%d] = %v", axis, i, layer)
+			}
+		}
+	}
+	for _, axis := range []int{-1, 3, 4, most, least} {
+		if layers, ok := whole.Layers(axis); ok || layers != nil {
+			t.Errorf("Layers(%d) = %v, %v", axis, layers, ok)
+		}
+	}
+}
+
+func TestLayersOfOneAxis(t *testing.T) {
+	back, _ := Whole(shapeOf(t, 3), 5).Cut(0, 2, 3, -1)
+	layers, ok := back.Layers(0)
+	if !ok || !slices.Equal(layers, []Grid{{First: 7}, {First: 6}, {First: 5}}) {
+		t.Errorf("Layers = %v, %v", layers, ok)
+	}
+	if layers, ok := layers[0].Layers(0); ok || layers != nil {
+		t.Errorf("Layers without axes = %v, %v", layers, ok)
+	}
+}

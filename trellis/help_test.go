@@ -1,6 +1,7 @@
 package trellis_test
 
 import (
+	"fmt"
 	"slices"
 	"testing"
 
@@ -129,11 +130,41 @@ func wantSame(t *testing.T, s *trellis.Space, a, b int) {
 // count sets the values of an array, in their order, from a number on.
 func count(t *testing.T, s *trellis.Space, h, from int) {
 	t.Helper()
+	values, e := s.Values(h)
+	wantDone(t, e)
+	for n := range values {
+		values[n] = from + n
+	}
+	put(t, s, h, values...)
+}
+
+// put sets the values of an array, in their order.
+func put(t *testing.T, s *trellis.Space, h int, values ...int) {
+	t.Helper()
 	look, e := s.Look(h)
 	wantDone(t, e)
-	for n, index := range indices(look.Shape) {
-		wantDone(t, s.Set(h, from+n, index...))
+	all := indices(look.Shape)
+	if len(all) != len(values) {
+		t.Fatalf("%d values for the shape %v", len(values), look.Shape)
 	}
+	for n, index := range all {
+		wantDone(t, s.Set(h, values[n], index...))
+	}
+}
+
+// everything tells all that can be seen of a space, up to a handle.
+func everything(s *trellis.Space, last int) string {
+	told := ""
+	for h := 1; h <= last; h++ {
+		values, wrong := s.Values(h)
+		look, e := s.Look(h)
+		told += fmt.Sprintln(h, values, wrong, look, e)
+	}
+	for _, kind := range []int{api.Byte, api.Int} {
+		state, e := s.Store(kind)
+		told += fmt.Sprintln(kind, state, e)
+	}
+	return told
 }
 
 // indices tells all indices of a shape, in their order.
@@ -177,6 +208,14 @@ func wantNoArray(t *testing.T, s *trellis.Space, h int) {
 	wantNone(t, api.ErrHandle)(s.Turn(h, -1))
 	wantNone(t, api.ErrHandle)(s.Stretch(h, -1))
 	wantNotReshaped(t, api.ErrHandle)(s.Reshape(h, -1))
+	// The op is one: ErrHandle is named behind ErrArg.
+	if e := s.Assign(h, h); e != api.ErrHandle {
+		t.Errorf("Assign(%d, %d) = %d", h, h, e)
+	}
+	if e := s.Work(api.Add, h, h, h); e != api.ErrHandle {
+		t.Errorf("Work(.., %d, %d, %d) = %d", h, h, h, e)
+	}
+	wantNone(t, api.ErrHandle)(s.Fold(api.Add, h, -1))
 	if shared, e := s.Shared(h, h); shared || e != api.ErrHandle {
 		t.Errorf("Shared(%d, %d) = %v, %d", h, h, shared, e)
 	}

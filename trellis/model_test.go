@@ -170,15 +170,16 @@ func (m *model) turn(h int, axes []int) (int, api.Errno) {
 	if a == nil {
 		return 0, api.ErrHandle
 	}
-	sorted := slices.Sorted(slices.Values(axes))
 	if len(axes) != len(a.shape) {
 		return 0, api.ErrShape
 	}
-	shape := make([]int, len(axes))
-	for k, axis := range axes {
-		if sorted[k] != k {
+	for k, axis := range slices.Sorted(slices.Values(axes)) {
+		if axis != k {
 			return 0, api.ErrShape
 		}
+	}
+	shape := make([]int, len(axes))
+	for k, axis := range axes {
 		shape[k] = a.shape[axis]
 	}
 	return m.view(a, shape, false, func(index []int) []int {
@@ -302,6 +303,113 @@ func (m *model) fill(h, value int) api.Errno {
 		m.stores[a.kind][cell].value = a.taken(value)
 	}
 	return api.OK
+}
+
+// over tells the values of a for the indices of a shape.
+func (m *model) over(a *plain, shape []int) ([]int, bool) {
+	lacks := len(shape) - len(a.shape)
+	if lacks < 0 {
+		return nil, false
+	}
+	for axis, size := range a.shape {
+		if size != 1 && size != shape[lacks+axis] {
+			return nil, false
+		}
+	}
+	values := m.values(a)
+	var over []int
+	for _, index := range indices(shape) {
+		meant := index[lacks:]
+		for axis, size := range a.shape {
+			meant[axis] %= size // 0, where the size is 1
+		}
+		over = append(over, values[rank(a.shape, meant)])
+	}
+	return over, true
+}
+
+func (m *model) work(op, to int, from ...int) api.Errno {
+	if op < 1 || op > 5 {
+		return api.ErrArg
+	}
+	for _, h := range append([]int{to}, from...) {
+		if m.arrays[h] == nil {
+			return api.ErrHandle
+		}
+	}
+	target := m.arrays[to]
+	if target.readOnly {
+		return api.ErrRead
+	}
+	a, fits := m.over(m.arrays[from[0]], target.shape)
+	b, fit := m.over(m.arrays[from[1]], target.shape)
+	if !fits || !fit {
+		return api.ErrShape
+	}
+	for n, cell := range target.cells {
+		m.stores[target.kind][cell].value = target.made(op, a[n], b[n])
+	}
+	return api.OK
+}
+
+// assign is working out the higher one of an array and itself.
+func (m *model) assign(to, from int) api.Errno {
+	return m.work(api.Max, to, from, from)
+}
+
+func (m *model) fold(op, h, axis int) (int, api.Errno) {
+	if op < 1 || op > 5 || op == api.Sub {
+		return 0, api.ErrArg
+	}
+	a := m.arrays[h]
+	if a == nil {
+		return 0, api.ErrHandle
+	}
+	if axis < 0 || axis >= len(a.shape) {
+		return 0, api.ErrRange
+	}
+	values := m.values(a)
+	made, e := m.make(a.kind, slices.Delete(slices.Clone(a.shape), axis, axis+1))
+	if e != api.OK {
+		return 0, e
+	}
+	to := m.arrays[made]
+	for n, index := range indices(to.shape) {
+		value := 0
+		for i := range a.shape[axis] {
+			next := values[rank(a.shape, slices.Insert(slices.Clone(index), axis, i))]
+			if i > 0 {
+				next = a.made(op, value, next)
+			}
+			value = next
+		}
+		m.stores[a.kind][to.cells[n]].value = value
+	}
+	return made, api.OK
+}
+
+// made is what an op makes of two numbers, worked out by numbers that do not
+// wrap round, and taken as a number of the kind then.
+func (a *plain) made(op, one, other int) int {
+	x, y := big.NewInt(int64(a.taken(one))), big.NewInt(int64(a.taken(other)))
+	switch op {
+	case api.Add:
+		x.Add(x, y)
+	case api.Sub:
+		x.Sub(x, y)
+	case api.Mul:
+		x.Mul(x, y)
+	case api.Min:
+		if y.Cmp(x) < 0 {
+			x = y
+		}
+	case api.Max:
+		if y.Cmp(x) > 0 {
+			x = y
+		}
+	}
+	x.Mod(x, new(big.Int).Lsh(big.NewInt(1), 64))
+	return a.taken(int(x.Uint64()))
 }
 
 func (m *model) values(a *plain) []int {

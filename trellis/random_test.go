@@ -103,7 +103,7 @@ func answerBool(h int, ok bool, e api.Errno) [3]int {
 
 func (p *pair) step() {
 	p.t.Helper()
-	switch p.r.IntN(12) {
+	switch p.r.IntN(16) {
 	case 0:
 		kind, shape := p.r.IntN(8)%3, p.numbers(p.r.IntN(5), 1, 4)
 		if p.r.IntN(8) == 0 {
@@ -113,9 +113,11 @@ func (p *pair) step() {
 	case 1, 2:
 		h := p.handle()
 		p.same("Free", h, answer(0, p.s.Free(h)), answer(0, p.m.free(h)))
-	case 3:
+	case 3, 4:
 		p.write()
-	case 4:
+	case 5, 6, 7:
+		p.work()
+	case 8:
 		a, b := p.handle(), p.handle()
 		got, e := p.s.Shared(a, b)
 		want, wrong := p.m.shared(a, b)
@@ -129,6 +131,9 @@ func (p *pair) write() {
 	p.t.Helper()
 	h, value := p.handle(), p.r.IntN(2000)-1000
 	if p.r.IntN(3) == 0 {
+		value = int(p.r.Uint64())
+	}
+	if p.r.IntN(3) == 0 {
 		p.same("Fill", h, answer(0, p.s.Fill(h, value)), answer(0, p.m.fill(h, value)))
 		return
 	}
@@ -137,6 +142,43 @@ func (p *pair) write() {
 		index = p.numbers(len(a.shape), 0, 2)
 	}
 	p.same("Set", []any{h, index}, answer(0, p.s.Set(h, value, index...)), answer(0, p.m.set(h, value, index)))
+}
+
+// fitting is most often an array that can be stretched to the shape of the array h.
+func (p *pair) fitting(h int) int {
+	var fit []int
+	for _, other := range slices.Sorted(maps.Keys(p.m.arrays)) {
+		if a := p.m.arrays[h]; a != nil {
+			if _, ok := p.m.over(p.m.arrays[other], a.shape); ok {
+				fit = append(fit, other)
+			}
+		}
+	}
+	if len(fit) == 0 || p.r.IntN(8) == 0 {
+		return p.handle()
+	}
+	return fit[p.r.IntN(len(fit))]
+}
+
+func (p *pair) work() {
+	p.t.Helper()
+	op, to := 1+p.r.IntN(5), p.handle()
+	if p.r.IntN(8) == 0 {
+		op = p.r.IntN(9) - 2
+	}
+	a, b := p.fitting(to), p.fitting(to)
+	switch p.r.IntN(3) {
+	case 0:
+		p.same("Assign", []int{to, a}, answer(0, p.s.Assign(to, a)), answer(0, p.m.assign(to, a)))
+	case 1:
+		p.same("Work", []int{op, to, a, b}, answer(0, p.s.Work(op, to, a, b)), answer(0, p.m.work(op, to, a, b)))
+	case 2:
+		axis := p.r.IntN(7) - 1
+		if a := p.m.arrays[to]; a != nil && len(a.shape) > 0 && p.r.IntN(4) > 0 {
+			axis = p.r.IntN(len(a.shape))
+		}
+		p.same("Fold", []int{op, to, axis}, answer(p.s.Fold(op, to, axis)), answer(p.m.fold(op, to, axis)))
+	}
 }
 
 func (p *pair) view() {
@@ -187,7 +229,7 @@ func (p *pair) compare() {
 
 func TestLikeThePlainModel(t *testing.T) {
 	seen := map[string]int{}
-	for seed := range uint64(30) {
+	for seed := range uint64(40) {
 		r := rand.New(rand.NewPCG(seed, 7))
 		bytes, ints := 20+r.IntN(300), 20+r.IntN(300)
 		p := &pair{t, r, newModel(bytes, ints), newSpace(t, bytes, ints), seen}
@@ -200,7 +242,8 @@ func TestLikeThePlainModel(t *testing.T) {
 		"Make 0", "Make 3", "Make 4", "Make 7", "Make 8", "Free 0", "Free 2", "Set 0", "Set 2", "Set 5", "Set 6",
 		"Fill 0", "Fill 2", "Fill 6", "Shared 0", "Shared 2", "Cut 0", "Cut 2", "Cut 5", "Cut 7", "Turn 0", "Turn 2",
 		"Turn 4", "Turn 7", "Stretch 0", "Stretch 2", "Stretch 4", "Stretch 7", "Reshape 0", "Reshape 2", "Reshape 4",
-		"Reshape 7", "Reshape 8", "Reshape true", "Shared true",
+		"Reshape 7", "Reshape 8", "Reshape true", "Shared true", "Assign 0", "Assign 2", "Assign 4", "Assign 6",
+		"Work 0", "Work 1", "Work 2", "Work 4", "Work 6", "Fold 0", "Fold 1", "Fold 2", "Fold 5", "Fold 7", "Fold 8",
 	} {
 		if seen[answer] < 5 {
 			t.Errorf("%s came only %d times", answer, seen[answer])

@@ -13,6 +13,7 @@ type store interface {
 	Read(places ...int) []int
 	Fill(value int, places ...int)
 	Write(places, values []int)
+	Combine(op int, a, b []int) []int
 	State() api.Store
 }
 
@@ -71,6 +72,64 @@ func (s *Space) findToWrite(h int) (array, store, api.Errno) {
 	return found, in, api.OK
 }
 
+// findToWork is findToWrite for calls that write all of an array out of others:
+// it tells the cells to write, their store, and for each of the others its
+// values, stretched. They are new memory, so that writing changes none of them.
+func (s *Space) findToWork(h int, from ...int) ([]int, store, [][]int, api.Errno) {
+	// ErrHandle of any of them comes ahead of ErrRead.
+	others, e := s.findAll(from)
+	if e != api.OK {
+		return nil, nil, nil, e
+	}
+	to, in, e := s.findToWrite(h)
+	if e != api.OK {
+		return nil, nil, nil, e
+	}
+	values := make([][]int, len(others))
+	for i, other := range others {
+		over, ok := s.valuesOver(other, to.grid.Shape)
+		if !ok {
+			return nil, nil, nil, api.ErrShape
+		}
+		values[i] = over
+	}
+	return to.grid.Cells(), in, values, api.OK
+}
+
+// findAll tells the arrays of handles.
+func (s *Space) findAll(handles []int) ([]array, api.Errno) {
+	all := make([]array, len(handles))
+	for i, h := range handles {
+		found, _, e := s.find(h)
+		if e != api.OK {
+			return nil, e
+		}
+		all[i] = found
+	}
+	return all, api.OK
+}
+
+// valuesOver tells the values of an array for the indices of a shape, and
+// whether it can be stretched to that.
+func (s *Space) valuesOver(of array, shape grid.Shape) ([]int, bool) {
+	stretched, ok := of.grid.Stretch(shape)
+	if !ok {
+		return nil, false
+	}
+	in, _ := s.storeOf(of.kind)
+	return in.Read(stretched.Cells()...), true
+}
+
+// foldLayers tells what an op makes of the values of layers: the first with the
+// second, that with the third, and so on.
+func foldLayers(op int, in store, layers []grid.Grid) []int {
+	values := in.Read(layers[0].Cells()...)
+	for _, next := range layers[1:] {
+		values = in.Combine(op, values, in.Read(next.Cells()...))
+	}
+	return values
+}
+
 // isMany tells whether there may be no more arrays.
 func (s *Space) isMany() bool {
 	return len(s.arrays) >= api.MaxArrays
@@ -97,13 +156,13 @@ func (s *Space) makeView(of array, view grid.Grid) (int, api.Errno) {
 	return s.add(of), api.OK
 }
 
-// makeCopy makes an array with a buffer of its own, and the values of another one.
-func (s *Space) makeCopy(of array, in store, shape grid.Shape) (int, api.Errno) {
-	h, e := s.makeWhole(of.kind, in, shape)
+// makeOf makes an array with a buffer of its own, of these values.
+func (s *Space) makeOf(kind int, in store, shape grid.Shape, values []int) (int, api.Errno) {
+	h, e := s.makeWhole(kind, in, shape)
 	if e != api.OK {
 		return 0, e
 	}
-	in.Write(s.arrays[h].grid.Cells(), in.Read(of.grid.Cells()...))
+	in.Write(s.arrays[h].grid.Cells(), values)
 	return h, api.OK
 }
 

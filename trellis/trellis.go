@@ -94,7 +94,7 @@ func (s *Space) Reshape(h int, shape ...int) (int, bool, api.Errno) {
 		made, e := s.makeView(of, view)
 		return made, e == api.OK, e
 	}
-	made, e := s.makeCopy(of, in, sizes)
+	made, e := s.makeOf(of.kind, in, sizes, in.Read(of.grid.Cells()...))
 	return made, false, e
 }
 
@@ -149,13 +149,43 @@ func (s *Space) Fill(h, value int) api.Errno {
 }
 
 // Assign sets all values by another array's (P9).
-func (s *Space) Assign(to, from int) api.Errno { return api.OK }
+func (s *Space) Assign(to, from int) api.Errno {
+	places, in, values, e := s.findToWork(to, from)
+	if e != api.OK {
+		return e
+	}
+	in.Write(places, values[0])
+	return api.OK
+}
 
 // Work sets all values by two other arrays' (P9).
-func (s *Space) Work(op, to, a, b int) api.Errno { return api.OK }
+func (s *Space) Work(op, to, a, b int) api.Errno {
+	if !cells.IsOp(op) {
+		return api.ErrArg
+	}
+	places, in, values, e := s.findToWork(to, a, b)
+	if e != api.OK {
+		return e
+	}
+	in.Write(places, in.Combine(op, values[0], values[1]))
+	return api.OK
+}
 
 // Fold makes an array without an axis (P10).
-func (s *Space) Fold(op, h, axis int) (int, api.Errno) { return 0, api.OK }
+func (s *Space) Fold(op, h, axis int) (int, api.Errno) {
+	if !cells.IsOp(op) || op == api.Sub {
+		return 0, api.ErrArg
+	}
+	of, in, e := s.find(h)
+	if e != api.OK {
+		return 0, e
+	}
+	layers, ok := of.grid.Layers(axis)
+	if !ok {
+		return 0, api.ErrRange
+	}
+	return s.makeOf(of.kind, in, layers[0].Shape, foldLayers(op, in, layers))
+}
 
 // Values tells all values (P11).
 func (s *Space) Values(h int) ([]int, api.Errno) {
@@ -177,16 +207,12 @@ func (s *Space) Look(h int) (api.Look, api.Errno) {
 
 // Shared tells whether two arrays have a cell in common (P11).
 func (s *Space) Shared(a, b int) (bool, api.Errno) {
-	one, _, e := s.find(a)
-	if e != api.OK {
-		return false, e
-	}
-	other, _, e := s.find(b)
+	both, e := s.findAll([]int{a, b})
 	if e != api.OK {
 		return false, e
 	}
 	// Each kind has a store of its own, and the cells of both have the same numbers.
-	return one.kind == other.kind && one.grid.Meets(other.grid), api.OK
+	return both[0].kind == both[1].kind && both[0].grid.Meets(both[1].grid), api.OK
 }
 
 // Store tells how a store of cells stands (P11).
